@@ -1,0 +1,1 @@
+"""Deskswaps: persons who exchange desks with their superiors."""
