@@ -5,6 +5,7 @@ from deskswaps.kinds import are_different_names, is_name, is_number
 from deskswaps.offices import need_office
 
 MOST_CALLS = 2000
+MOST_FAR_CALLS = 10 ** 30
 
 
 def is_seating(office, value):
@@ -43,21 +44,25 @@ def need_calls(calls, most):
         raise NoCalls("this is not such a number of calls")
 
 
-def step(office, seating, name):
-    """Carry out one call.
+def carry_out(office, seating, names):
+    """Carry out calls of these persons, one after the other.
 
-    Returns the seating after the call, the desk of the called person before
-    it, and the name of the passed person, which is None at desk 0.
+    Returns the seating after the calls, and a list of tuples: the name of the
+    called person, its desk before the call, and the name of the passed person,
+    which is None at desk 0.
     """
-    desk = seating.index(name)
-    if desk == 0:
-        return (seating, desk, None)
-    upper = office[desk - 1]
-    passed = seating[upper]
     people = list(seating)
-    people[upper] = name
-    people[desk] = passed
-    return (tuple(people), desk, passed)
+    rows = []
+    for name in names:
+        desk = people.index(name)
+        passed = None
+        if desk > 0:
+            upper = office[desk - 1]
+            passed = people[upper]
+            people[upper] = name
+            people[desk] = passed
+        rows.append((name, desk, passed))
+    return (tuple(people), rows)
 
 
 def names_called(order, calls):
@@ -68,11 +73,19 @@ def names_called(order, calls):
     return [order[number % len(order)] for number in range(calls)]
 
 
+def days_and_rest(order, calls):
+    """Return the number of whole days, and the persons called on the day after them as a tuple."""
+    if len(order) == 0:
+        return (0, ())
+    days, rest = divmod(calls, len(order))
+    return (days, order[:rest])
+
+
 def after_call(office, seating, name):
     """Return the seating after a call of one person."""
     need_seating(office, seating)
     need_name(seating, name)
-    after, _, _ = step(office, seating, name)
+    after, _ = carry_out(office, seating, [name])
     return after
 
 
@@ -80,19 +93,13 @@ def run(office, seating, order, calls):
     """Return the seating after a number of calls of successive days."""
     need_order(office, seating, order)
     need_calls(calls, MOST_CALLS)
-    now = seating
-    for name in names_called(order, calls):
-        now, _, _ = step(office, now, name)
-    return now
+    after, _ = carry_out(office, seating, names_called(order, calls))
+    return after
 
 
 def record(office, seating, order, calls):
     """Return the first calls of successive days as a list of tuples (name, desk, passed)."""
     need_order(office, seating, order)
     need_calls(calls, MOST_CALLS)
-    now = seating
-    rows = []
-    for name in names_called(order, calls):
-        now, desk, passed = step(office, now, name)
-        rows.append((name, desk, passed))
+    _, rows = carry_out(office, seating, names_called(order, calls))
     return rows

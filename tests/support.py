@@ -50,6 +50,19 @@ def odd_items():
     return [value for value in odd_values() if not isinstance(value, tuple)] + [(), (0,), ('a',), nested(39)]
 
 
+BAD_NAMES = ['', 'abcdefghi', 'A', 'Ab', 'a1', '1', 'a b', ' a', 'a-b', 'a_b', 'a\n', '\n', 'a.', 'a\x00',
+             '\xe4', '\xdf', '\u03b1', '\u0131', '\uff41', '\xaa']
+BAD_OFFICES = [(1,), (0, True), (0,) * 40, [0, 0, 2], None, 'abc', NotShown()]
+BAD_SEATINGS = [(), ('a', 'b', 'c'), ('a', 'b', 'c', 'd', 'e'), ('a', 'b', 'c', 'a'), ['a', 'b', 'c', 'd'], 'abcd',
+                None, ('a', 'b', 'c', 'D'), ('a', 'b', 'c', ''), ('a', 'b', 'c', ['d']), (0, 1, 2, 3), NotShown()]
+BAD_ORDERS = [('e',), ('a', 'a'), ('a', 'b', 'c', 'd', 'a'), ['a', 'b'], [], 'a', 'abcd', '', None, ('A',), ('',),
+              (0,), (['a'],), {}, (None,), (EqualToAll(),), NotShown()]
+BAD_CALLS = [-1, 2001, True, False, None, '4', b'4', (), (4,), [], [4], {}, 10 ** 30, 10 ** 36, -10 ** 36,
+             10 ** 5000, EqualToAll(), NotShown()]
+BAD_FAR_CALLS = [10 ** 30 + 1, -1, True, False, None, '4', b'4', (), (4,), [], [4], {}, 10 ** 36, -10 ** 36,
+                 10 ** 5000, EqualToAll(), NotShown()]
+
+
 def chain(many):
     return tuple(range(many - 1))
 
@@ -94,6 +107,14 @@ def orders_for(seating, seed=0):
     chance.shuffle(everybody)
     some = everybody[:(len(everybody) + 1) // 2]
     return list(dict.fromkeys([seating, tuple(everybody), tuple(some), tuple(everybody[:1]), ()]))
+
+
+def sample_states(offices, seed):
+    """A state of each of the offices, with orders of all, of some and of none of the persons."""
+    for index, office in enumerate(offices):
+        names = names_for(len(office) + 1, seed)
+        for order in orders_for(names, index):
+            yield office, tuple(random.Random(index + seed).sample(names, len(names))), order
 
 
 def walk_up(office, desk):
@@ -156,13 +177,20 @@ def check_errors(case, function, *parameters):
             check_error(case, expected[0], function, *[value for value, _ in choice])
 
 
-def check_unchanged(case, function, *args):
-    """Check that a call leaves its arguments as they were, whether it raises an error or not."""
-    before = copy.deepcopy(args)
+def outcome(function, *args):
+    """What a call returns, or the class of the error that it raises."""
     try:
-        function(*args)
-    except OfficeError:
-        pass
+        return function(*args)
+    except OfficeError as error:
+        return type(error)
+
+
+def check_unchanged(case, function, *args):
+    """Check that a call leaves its arguments as they were, and that the same call again has the same outcome."""
+    before = copy.deepcopy(args)
+    first = outcome(function, *args)
+    case.assertEqual(args, before)
+    case.assertEqual(outcome(function, *args), first)
     case.assertEqual(args, before)
 
 
@@ -176,3 +204,16 @@ def check_new_list(case, function, *args):
     first.append('more')
     case.assertEqual(second, before)
     case.assertEqual(function(*args), before)
+
+
+def check_each_error(case, function, *parameters):
+    """Check the listed errors: each bad value alone, and the first three of each parameter together.
+
+    The parameters are those of check_errors, which tries all combinations.
+    """
+    for index, (_, bad, error) in enumerate(parameters):
+        for value in bad:
+            args = [good for good, _, _ in parameters]
+            args[index] = value
+            check_error(case, error, function, *args)
+    check_errors(case, function, *[(good, bad[:3], error) for good, bad, error in parameters])

@@ -5,19 +5,10 @@ import unittest
 
 from deskswaps.calls import after_call, is_order, is_seating, record, run
 from deskswaps.errors import NoCalls, NoName, NoOffice, NoOrder, NoSeating
-from tests.support import (OFFICE, ORDER, START, EqualToAll, NotShown, chain, check_error, check_errors,
-                           check_new_list, check_unchanged, grown, names_for, odd_items, odd_values, offices_with,
-                           orders_for, sample_offices, simulate, star)
-
-BAD_NAMES = ['', 'abcdefghi', 'A', 'Ab', 'a1', '1', 'a b', ' a', 'a-b', 'a_b', 'a\n', '\n', 'a.', 'a\x00',
-             '\xe4', '\xdf', '\u03b1', '\u0131', '\uff41', '\xaa']
-BAD_OFFICES = [(1,), (0, True), star(41), [0, 0, 2], None, 'abc', NotShown()]
-BAD_SEATINGS = [(), ('a', 'b', 'c'), ('a', 'b', 'c', 'd', 'e'), ('a', 'b', 'c', 'a'), ['a', 'b', 'c', 'd'], 'abcd',
-                None, ('a', 'b', 'c', 'D'), ('a', 'b', 'c', ''), ('a', 'b', 'c', ['d']), (0, 1, 2, 3), NotShown()]
-BAD_ORDERS = [('e',), ('a', 'a'), ('a', 'b', 'c', 'd', 'a'), ['a', 'b'], [], 'a', 'abcd', '', None, ('A',), ('',),
-              (0,), (['a'],), {}, (None,), (EqualToAll(),), NotShown()]
-BAD_CALLS = [-1, 2001, True, False, None, '4', b'4', (), (4,), [], [4], {}, 10 ** 30, 10 ** 36, -10 ** 36,
-             10 ** 5000, EqualToAll(), NotShown()]
+from tests.support import (BAD_CALLS, BAD_NAMES, BAD_OFFICES, BAD_ORDERS, BAD_SEATINGS, OFFICE, ORDER, START,
+                           EqualToAll, NotShown, chain, check_error, check_errors, check_new_list, check_unchanged,
+                           grown, names_for, odd_items, odd_values, offices_with, orders_for, sample_offices,
+                           simulate, star)
 
 
 class IsSeatingTest(unittest.TestCase):

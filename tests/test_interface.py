@@ -22,6 +22,29 @@ FUNCTIONS = {
         'run': ['office', 'seating', 'order', 'calls'],
         'record': ['office', 'seating', 'order', 'calls'],
     },
+    'deskswaps.costs': {
+        'day_cost': ['office', 'seating', 'order'],
+        'passes': ['office', 'seating', 'order'],
+        'cost_of_calls': ['office', 'seating', 'order', 'calls'],
+        'final_cost': ['office', 'seating', 'order'],
+    },
+    'deskswaps.states': {
+        'statuses': ['office', 'seating', 'order'],
+        'is_recurrent': ['office', 'seating', 'order'],
+        'obstruction': ['office', 'seating', 'order'],
+        'is_obstruction': ['office', 'seating', 'order', 'value'],
+    },
+    'deskswaps.settling': {
+        'settling_day': ['office', 'seating', 'order'],
+        'settled': ['office', 'seating', 'order'],
+        'groups_of': ['office', 'seating', 'order'],
+    },
+    'deskswaps.far': {
+        'seating_after': ['office', 'seating', 'order', 'calls'],
+        'desk_of': ['office', 'seating', 'order', 'name', 'calls'],
+        'calls_at': ['office', 'seating', 'order', 'name', 'desk', 'calls'],
+        'nth_call_at': ['office', 'seating', 'order', 'name', 'desk', 'number'],
+    },
 }
 
 
