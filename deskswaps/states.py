@@ -4,14 +4,22 @@ from deskswaps.calls import need_order
 from deskswaps.kinds import is_number
 
 
-def open_below(office, seating, order):
-    """Return for each desk the ascending list of the open desks directly below it."""
-    rows = [[] for _ in seating]
+def open_desks(office, called):
+    """Return for each desk the ascending list of the open desks directly below it.
+
+    The list `called` tells for each desk whether the person there is called.
+    """
+    rows = [[] for _ in called]
     # In descending order, all desks directly below a desk have had their turn before it.
     for desk in range(len(office), 0, -1):
-        if len(rows[desk]) == 0 and seating[desk] in order:
+        if len(rows[desk]) == 0 and called[desk]:
             rows[office[desk - 1]].insert(0, desk)
     return rows
+
+
+def open_below(office, seating, order):
+    """Return for each desk of a state the ascending list of the open desks directly below it."""
+    return open_desks(office, [name in order for name in seating])
 
 
 def blockers_at(desk, under, seating, order):

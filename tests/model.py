@@ -2,7 +2,7 @@
 
 import itertools
 
-from tests.support import Persons, simulate
+from tests.support import Persons, simulate, walk_up
 
 
 def small_offices(most):
@@ -119,3 +119,19 @@ class Orbit:
         last = simulate(self.office, self.state(days), self.order, rest)[0]
         return sum(map(weight, last)) + sum(sum(map(weight, rows)) * self.times(index, days)
                                             for index, rows in enumerate(self.rows))
+
+
+def removed_groups(office):
+    """The groups if everybody is called, and whether desk 0 is left alone.
+
+    Again and again the superior of a deepest desk is removed with all desks
+    that are left directly below it.
+    """
+    left, found = set(range(len(office) + 1)), []
+    while left - {0}:
+        deepest = max(left, key=lambda desk: len(walk_up(office, desk)))
+        center = office[deepest - 1]
+        lower = sorted(desk for desk in left - {0} if office[desk - 1] == center)
+        found.append((center, lower))
+        left -= {center, *lower}
+    return sorted(found), left == {0}

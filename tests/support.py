@@ -80,6 +80,16 @@ def grown(many, seed):
     return tuple(chance.randint(0, index) for index in range(many - 1))
 
 
+def group_office(numbers):
+    """An office whose groups, if everybody is called, have these numbers of lower desks."""
+    office = []
+    for index, number in enumerate(numbers):
+        center = len(office)
+        # Behind the lower desks comes the center of the next group.
+        office += [center] * (number + (index < len(numbers) - 1))
+    return tuple(office)
+
+
 def offices_with(many):
     """Offices with this number of desks, each once."""
     shapes = [chain(many), star(many), binary(many)] + [grown(many, seed) for seed in range(3)]
