@@ -8,12 +8,15 @@ LETTERS = "abcdefghijklmnopqrstuvwxyz"
 LONGEST_NAME = 8
 
 
+def is_whole(value):
+    """Tell whether the value is an integer."""
+    # True and False would pass as 1 and 0.
+    return isinstance(value, int) and not isinstance(value, bool)
+
+
 def is_number(value, low, high):
     """Tell whether the value is an integer from low to high."""
-    # True and False would pass as 1 and 0.
-    if not isinstance(value, int) or isinstance(value, bool):
-        return False
-    return low <= value <= high
+    return is_whole(value) and low <= value <= high
 
 
 def is_name(value):

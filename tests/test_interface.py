@@ -6,6 +6,7 @@ import pathlib
 import unittest
 
 import deskswaps
+from deskswaps.live import LiveOffice
 
 FUNCTIONS = {
     'deskswaps.offices': {
@@ -45,6 +46,64 @@ FUNCTIONS = {
         'calls_at': ['office', 'seating', 'order', 'name', 'desk', 'calls'],
         'nth_call_at': ['office', 'seating', 'order', 'name', 'desk', 'number'],
     },
+    'deskswaps.groups': {
+        'groups': ['office'],
+        'is_alone': ['office'],
+        'levels': ['office'],
+        'period': ['office'],
+        'recurrent_count': ['office'],
+    },
+    'deskswaps.cycles': {
+        'cycle_length': ['office', 'seating', 'order'],
+        'cycle_of': ['office', 'seating', 'order'],
+        'passes_in_cycle': ['office', 'seating', 'order', 'one', 'other'],
+        'meet': ['office', 'seating', 'other', 'order'],
+    },
+    'deskswaps.counting': {
+        'count_recurrent': ['office', 'silent'],
+        'count_by_passes': ['office'],
+        'nth_recurrent': ['office', 'order', 'number'],
+        'recurrent_index': ['office', 'order', 'seating'],
+    },
+    'deskswaps.backwards': {
+        'before_call': ['office', 'seating', 'name'],
+        'count_before': ['office', 'seating', 'order', 'calls'],
+        'days_back': ['office', 'seating', 'order'],
+    },
+    'deskswaps.reading': {
+        'seating_from_desks': ['office', 'order', 'desks'],
+        'count_with_costs': ['office', 'names', 'order', 'costs'],
+    },
+    'deskswaps.texts': {
+        'show_office': ['office', 'seating'],
+        'read_office': ['text'],
+    },
+}
+
+CLASSES = {
+    'deskswaps.live': {
+        'LiveOffice': {
+            '__init__': ['self', 'office', 'seating', 'order'],
+            'call': ['self', 'name'],
+            'days': ['self', 'days'],
+            'reorder': ['self', 'order'],
+            'add': ['self', 'desk', 'name'],
+            'remove': ['self'],
+            'undo': ['self'],
+            'office': ['self'],
+            'seating': ['self'],
+            'order': ['self'],
+            'log': ['self'],
+            '__len__': ['self'],
+            '__eq__': ['self', 'other'],
+        },
+    },
+    'deskswaps.console': {
+        'Console': {
+            '__init__': ['self'],
+            'say': ['self', 'row'],
+        },
+    },
 }
 
 
@@ -60,6 +119,22 @@ class InterfaceTest(unittest.TestCase):
                     self.assertEqual(function.__module__, module_name)
                     self.assertEqual(function.__name__, name)
                     self.assertEqual(list(inspect.signature(function).parameters), arguments)
+
+    def test_classes_and_their_methods_are_defined_where_they_are_listed(self):
+        for module_name, classes in CLASSES.items():
+            module = importlib.import_module(module_name)
+            for name, methods in classes.items():
+                own = getattr(module, name)
+                self.assertTrue(inspect.isclass(own))
+                self.assertEqual((own.__module__, own.__name__), (module_name, name))
+                for method, arguments in methods.items():
+                    with self.subTest((name, method)):
+                        self.assertIn(method, vars(own))
+                        self.assertEqual(list(inspect.signature(vars(own)[method]).parameters), arguments)
+
+    def test_the_order_of_a_live_office_is_passed_by_keyword(self):
+        order = inspect.signature(LiveOffice).parameters['order']
+        self.assertEqual((order.kind, order.default), (order.KEYWORD_ONLY, ()))
 
     def test_the_folder_holds_python_files_only(self):
         folder = pathlib.Path(deskswaps.__file__).parent
